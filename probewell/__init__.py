@@ -1,0 +1,1 @@
+"""Probewell: machines told apart, gathered, tested and learned by rows of asks."""
