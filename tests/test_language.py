@@ -25,6 +25,9 @@ OWN_METHODS = """append clear copy count endswith extend find get index insert i
     rstrip setdefault split splitlines startswith strip update upper values zfill bit_length add discard""".split()
 ALL_METHODS = {name for kind in (str, int, list, tuple, dict, set, bytes) for name in dir(kind)}
 DUNDER_METHODS = ["__init__", "__eq__", "__repr__", "__str__", "__len__"]
+WALKS = ["zip", "enumerate", "reversed", "range"]
+WALKING_METHODS = ["items", "keys", "values"]
+WALKERS = ["list", "tuple", "dict", "sorted", "sum", "any", "all", "enumerate", "zip"]
 BARRED_WORDS = re.compile(
     r"\b(type|typing|typing_extensions|enum|Enum|IntEnum|StrEnum|Flag|IntFlag|Generic|Protocol|ABC|ABCMeta|namedtuple"
     r"|NamedTuple|TypedDict|TYPE_CHECKING|abstractmethod)\b|dataclass|overload|contextmanager")
@@ -167,9 +170,39 @@ def seen_at_top(tree):
     return found
 
 
+def seen_in_bindings(tree):
+    taken = [node.name for node in tree.body if isinstance(node, ast.ClassDef)]
+    for node in tree.body:
+        taken += [part.asname or part.name for part in node.names] if isinstance(node, ast.ImportFrom) else []
+    bound = [node.arg for node in ast.walk(tree) if isinstance(node, ast.arg)]
+    bound += [node.id for node in ast.walk(tree) if isinstance(node, ast.Name) and isinstance(node.ctx, ast.Store)]
+    return ["L15 called like an import or a class: " + name for name in bound if name in taken]
+
+
+def is_walk(node):
+    called = node.func if isinstance(node, ast.Call) else None
+    return (isinstance(called, ast.Name) and called.id in WALKS
+            or isinstance(called, ast.Attribute) and called.attr in WALKING_METHODS)
+
+
+def seen_in_walks(tree):
+    walked = []
+    for node in ast.walk(tree):
+        if isinstance(node, (ast.For, ast.comprehension)):
+            walked.append(node.iter)
+        elif isinstance(node, ast.Call) and node.args:
+            name = node.func.id if isinstance(node.func, ast.Name) else ""
+            alone = name in ("min", "max") and len(node.args) == 1
+            joined = (isinstance(node.func, ast.Attribute) and node.func.attr == "join"
+                      and isinstance(node.func.value, ast.Constant))
+            walked += node.args[:1] if name in WALKERS or alone or joined else []
+    kept = [node for node in ast.walk(tree) if is_walk(node) and node not in walked]
+    return [f"L23 kept, not walked at once (row {node.lineno})" for node in kept]
+
+
 def seen(text):
     tree = ast.parse(text)
-    found = seen_in_text(text) + seen_at_top(tree)
+    found = seen_in_text(text) + seen_at_top(tree) + seen_in_bindings(tree) + seen_in_walks(tree)
     for node in ast.walk(tree):
         found += [f"{fault} (row {getattr(node, 'lineno', 0)})" for fault in seen_in_node(node)]
     return found
@@ -223,6 +256,10 @@ class Language(unittest.TestCase):
             "def f():\n    '''Words.'''\n    return 1\n", "def f():\n" + "    f()\n" * 40, "x = 1" + " " * 120 + "\n",
             "def hidden(_a):\n    pass\n", "x = '\u00e4'\n",
             "def f():\n    for a in b:\n        pass\n    else:\n        f()\n",
+            "from probewell.errors import NoState\n\n\ndef f(NoState):\n    pass\n",
+            "from probewell.reach import ways\n\n\ndef f(a):\n    ways = a\n",
+            "def f(a):\n    b = range(a)\n", "def f(a):\n    return a in range(3)\n",
+            "def f(a):\n    return a.items()\n",
         ]
         for text in faults:
             with self.subTest(text):

@@ -4,7 +4,7 @@ import unittest
 
 from probewell.errors import NoMachine
 from probewell.tables import asks_of, checked, is_machine
-from things import bare_things, list_things, number_things, tuple_things
+from things import bare_things, even_machine, label, list_things, nested_in_itself, number_things, tuple_things
 
 LONGEST = int("9" * 60)
 
@@ -14,10 +14,6 @@ class OwnList(list):
 
 
 Step = collections.namedtuple("Step", "answer after")
-
-
-def even_machine(states, asks):
-    return [[(ask - state, (state + ask) % states) for ask in range(asks)] for state in range(states)]
 
 
 def machines():
@@ -67,9 +63,8 @@ def machines_of_wrong_things():
     return found
 
 
-def nested_in_itself():
-    thing = []
-    thing.append(thing)
+def machines_nested_in_themselves():
+    thing = nested_in_itself()
     row = []
     row.append((0, row))
     return [thing, [row], [thing, thing]]
@@ -83,15 +78,7 @@ def things_of_other_kinds():
 
 def no_machines():
     return (uneven_machines() + machines_of_wrong_steps() + machines_of_wrong_things()
-            + nested_in_itself() + things_of_other_kinds())
-
-
-def label(thing):
-    # Python refuses to write the longest numbers.
-    try:
-        return repr(thing)
-    except ValueError:
-        return "a thing with a long number"
+            + machines_nested_in_themselves() + things_of_other_kinds())
 
 
 class IsMachine(unittest.TestCase):

@@ -1,5 +1,7 @@
-"""Things of many kinds that are no whole numbers, no lists and no tuples."""
+"""What the tests hand in: things of wrong kinds, machines of many forms; and how what is told is looked through."""
 
+import itertools
+import random
 from decimal import Decimal
 from fractions import Fraction
 
@@ -61,3 +63,108 @@ def list_things():
 
 def tuple_things():
     return [(), (0,), (0, 0), ([(0, 0)],)]
+
+
+def nested_in_itself():
+    thing = []
+    thing.append(thing)
+    return thing
+
+
+def no_numbers_below(bound):
+    """Things of every kind that are no whole numbers from 0 to below the bound."""
+    return bare_things() + list_things() + tuple_things() + [-1, -bound, bound, bound + 1, 10 ** 6000, -(10 ** 6000)]
+
+
+def no_probes(many):
+    """Things of every kind that are no probes for so many asks."""
+    found = bare_things() + tuple_things() + number_things() + [range(many), "0", (0, 0), {0: 0}, nested_in_itself()]
+    for thing in no_numbers_below(many):
+        found += [[thing], [0, thing], [thing, 0], [0] * 12999 + [thing]]
+    return found + [[0] * 13001, [many - 1] * 13001, [0] * 20000, [many] * 13001]
+
+
+def label(thing):
+    # Python refuses to write the longest numbers, and the longest lists are of no use in a report.
+    try:
+        return repr(thing)[:200]
+    except ValueError:
+        return "a thing with a long number"
+
+
+def even_machine(states, asks):
+    return [[(ask - state, (state + ask) % states) for ask in range(asks)] for state in range(states)]
+
+
+def chain(states, asks=1):
+    """The last ask alone leads on, and the last state alone answers it otherwise; the other asks lead back to 0."""
+    found = []
+    for state in range(states):
+        last = state == states - 1
+        found.append([(0, 0)] * (asks - 1) + [(1 if last else 0, state if last else state + 1)])
+    return found
+
+
+def drawn_machine(seed, states, asks, answers):
+    draw = random.Random(seed)
+    return [[(draw.choice(answers), draw.randrange(states)) for ask in range(asks)] for state in range(states)]
+
+
+def all_machines(states, asks, answers):
+    steps = list(itertools.product(answers, range(states)))
+    for rows in itertools.product(itertools.product(steps, repeat=asks), repeat=states):
+        yield [list(row) for row in rows]
+
+
+def small_machines():
+    """All of the least ones, and some that are drawn: small enough to be asked every probe that matters."""
+    found = list(all_machines(1, 2, [0, 1])) + list(all_machines(2, 1, [0, 1])) + list(all_machines(2, 2, [0, 1]))
+    found += list(all_machines(3, 1, [0, 1]))
+    for seed in range(120):
+        found.append(drawn_machine(seed, 3 + seed % 3, 1 + seed % 3, [0, 1] if seed % 2 else [0, 0, 0, -5]))
+    return found
+
+
+def large_machines():
+    """Of 30 states, or of 5 asks, or both."""
+    longest = int("9" * 60)
+    found = [even_machine(30, 5), even_machine(30, 1), even_machine(1, 5), chain(30), chain(30, 5)]
+    found.append([[(7, (state * 7 + ask) % 30) for ask in range(5)] for state in range(30)])
+    for seed in range(6):
+        found.append(drawn_machine(seed, 30, 5, [0, 1]))
+        found.append(drawn_machine(seed, 30, 2, [0] * 15 + [1]))
+        found.append(drawn_machine(seed, 30, 1, [longest, -longest]))
+    return found
+
+
+def probes_up_to(length, asks):
+    """All probes of at most so many asks, in order."""
+    for many in range(length + 1):
+        for probe in itertools.product(range(asks), repeat=many):
+            yield list(probe)
+
+
+def walked(machine, state, probe):
+    """A walk, written down once more for the tests."""
+    answers = []
+    for ask in probe:
+        answers.append(machine[state][ask][0])
+        state = machine[state][ask][1]
+    return answers, state
+
+
+def lists_in(thing):
+    """Every list within a thing, as often as it is held there."""
+    if not isinstance(thing, (list, tuple)):
+        return []
+    found = [thing] if isinstance(thing, list) else []
+    for part in thing:
+        found += lists_in(part)
+    return found
+
+
+def shares_lists(told, handed):
+    """Whether what is told holds a list twice, or one that was handed in."""
+    lists = lists_in(told)
+    numbers = {id(one) for one in lists}
+    return len(numbers) < len(lists) or bool(numbers & {id(one) for one in lists_in(handed)})
