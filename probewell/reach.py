@@ -11,15 +11,19 @@ def reached(machine):
 
 
 def ways_by_state(machine):
+    return ways_from(0, lambda state: [step[1] for step in machine[state]])
+
+
+def ways_from(start, led_to):
     # Ways are found in their order, for each is an earlier way with an ask behind: so the keys lie in this order too.
-    found = {0: []}
-    newest = [0]
+    found = {start: []}
+    newest = [start]
     while newest:
         newer = []
-        for state in newest:
-            for ask, step in enumerate(machine[state]):
-                if step[1] not in found:
-                    found[step[1]] = found[state] + [ask]
-                    newer.append(step[1])
+        for place in newest:
+            for ask, after in enumerate(led_to(place)):
+                if after not in found:
+                    found[after] = found[place] + [ask]
+                    newer.append(after)
         newest = newer
     return found

@@ -13,12 +13,20 @@ def is_probe(thing, many):
 
 
 def before(one, other):
-    return (len(one), one) < (len(other), other)
+    return rank(one) < rank(other)
+
+
+def rank(probe):
+    return (len(probe), probe)
 
 
 def walk(machine, state, probe):
     need_state(machine, state)
     need_probe(machine, probe)
+    return walked(machine, state, probe)
+
+
+def walked(machine, state, probe):
     answers = []
     for ask in probe:
         step = machine[state][ask]

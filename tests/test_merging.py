@@ -6,16 +6,10 @@ from probewell.merging import classes, least
 from probewell.reach import ways
 from probewell.tables import is_machine
 from probewell.telling import apart
-from things import (chain, drawn_machine, even_machine, large_machines, probes_up_to, shares_lists, small_machines,
-                    walked)
+from things import (chain, doubled, drawn_machine, even_machine, large_machines, moved, pairs_met, probes_up_to,
+                    shares_lists, sights, small_machines, walked)
 
 LONGEST = int("9" * 60)
-
-
-def sights(machine):
-    """For each state its answers to all the probes that can tell states apart."""
-    probes = list(probes_up_to(len(machine) - 1, len(machine[0])))
-    return [[walked(machine, state, probe)[0] for probe in probes] for state in range(len(machine))]
 
 
 def classes_by_all_probes(machine):
@@ -39,26 +33,7 @@ def least_by_all_probes(machine):
 
 
 def alike(one, other):
-    """Whether two machines answer every probe alike: by all pairs of states to which a probe leads."""
-    met = [(0, 0)]
-    for state, against in met:
-        for step, beside in zip(one[state], other[against]):
-            if step[0] != beside[0]:
-                return False
-            if (step[1], beside[1]) not in met:
-                met.append((step[1], beside[1]))
-    return True
-
-
-def moved(machine, order):
-    """The same machine, the state that is order[k] called k; the first one must stay."""
-    return [[(answer, order.index(after)) for answer, after in machine[state]] for state in order]
-
-
-def doubled(machine, draw):
-    """Each state stands twice, and it is left to chance to which of the two a step leads."""
-    many = len(machine)
-    return [[(answer, after + many * draw.randrange(2)) for answer, after in row] for row in machine + machine]
+    return pairs_met(one, other) is not None
 
 
 class Classes(unittest.TestCase):

@@ -3,36 +3,11 @@ import unittest
 
 from probewell.errors import NoState
 from probewell.telling import apart, told_apart
-from things import (chain, drawn_machine, even_machine, label, large_machines, no_numbers_below, probes_up_to,
-                    shares_lists, small_machines, walked)
+from things import (chain, drawn_machine, even_machine, label, large_machines, no_numbers_below, shares_lists,
+                    small_machines, told_by_all_probes, told_by_pairs)
 
 LONGEST = int("9" * 60)
 PAIR = [[(0, 1), (1, 0)], [(-7, 0), (1, 1)]]
-
-
-def told_by_all_probes(machine, one, other):
-    for probe in probes_up_to(len(machine) - 1, len(machine[0])):
-        if walked(machine, one, probe)[0] != walked(machine, other, probe)[0]:
-            return probe
-    return None
-
-
-def told_by_pairs(machine, one, other):
-    """Forward from the two states, by pairs, in the order of the probes that lead to them."""
-    met = {(one, other): []}
-    waiting = [(one, other)]
-    while waiting:
-        pair = waiting.pop(0)
-        steps = list(zip(machine[pair[0]], machine[pair[1]]))
-        for ask, (step, against) in enumerate(steps):
-            if step[0] != against[0]:
-                return met[pair] + [ask]
-        for ask, (step, against) in enumerate(steps):
-            after = (step[1], against[1])
-            if after not in met:
-                met[after] = met[pair] + [ask]
-                waiting.append(after)
-    return None
 
 
 def by_each_pair(machine, tell):

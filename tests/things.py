@@ -153,6 +153,60 @@ def walked(machine, state, probe):
     return answers, state
 
 
+def sights(machine):
+    """For each state its answers to all the probes that can tell states apart."""
+    probes = list(probes_up_to(len(machine) - 1, len(machine[0])))
+    return [[walked(machine, state, probe)[0] for probe in probes] for state in range(len(machine))]
+
+
+def told_by_all_probes(machine, one, other):
+    for probe in probes_up_to(len(machine) - 1, len(machine[0])):
+        if walked(machine, one, probe)[0] != walked(machine, other, probe)[0]:
+            return probe
+    return None
+
+
+def told_by_pairs(machine, one, other):
+    """Forward from the two states, by pairs, in the order of the probes that lead to them."""
+    met = {(one, other): []}
+    waiting = [(one, other)]
+    while waiting:
+        pair = waiting.pop(0)
+        steps = list(zip(machine[pair[0]], machine[pair[1]]))
+        for ask, (step, against) in enumerate(steps):
+            if step[0] != against[0]:
+                return met[pair] + [ask]
+        for ask, (step, against) in enumerate(steps):
+            after = (step[1], against[1])
+            if after not in met:
+                met[after] = met[pair] + [ask]
+                waiting.append(after)
+    return None
+
+
+def pairs_met(one, other):
+    """The pairs of states to which a probe leads two machines, or None where some probe is answered unlike."""
+    met = [(0, 0)]
+    for state, against in met:
+        for step, beside in zip(one[state], other[against]):
+            if step[0] != beside[0]:
+                return None
+            if (step[1], beside[1]) not in met:
+                met.append((step[1], beside[1]))
+    return met
+
+
+def moved(machine, order):
+    """The same machine, the state that is order[k] called k; the first one must stay."""
+    return [[(answer, order.index(after)) for answer, after in machine[state]] for state in order]
+
+
+def doubled(machine, draw):
+    """Each state stands twice, and it is left to chance to which of the two a step leads."""
+    many = len(machine)
+    return [[(answer, after + many * draw.randrange(2)) for answer, after in row] for row in machine + machine]
+
+
 def lists_in(thing):
     """Every list within a thing, as often as it is held there."""
     if not isinstance(thing, (list, tuple)):
