@@ -1,5 +1,7 @@
 """States joined: by which first probes two of them are led to one and the same state."""
 
+from probewell.rounds import found_in_rounds
+
 
 def joins(machine):
     found = joins_by_pair(machine)
@@ -18,31 +20,17 @@ def joins_of(found, state, states):
 
 
 def joins_by_pair(machine):
-    found = {}
+    outset = {}
     for state in range(len(machine)):
-        found[(state, state)] = []
-    left = pairs_of(len(machine))
-    newer = joined_next(machine, left, found)
-    while newer:
-        found.update(newer)
-        left = [pair for pair in left if pair not in newer]
-        newer = joined_next(machine, left, found)
-    return found
+        outset[(state, state)] = []
+    return found_in_rounds(outset, pairs_of(len(machine)), lambda pair, found: first_joining(machine, pair, found))
 
 
-def joined_next(machine, left, found):
-    # What is left needs more asks than all that is found: so no ask that leads to a pair found is one too many, and
-    # the least of them begins the first probe.
-    newer = {}
-    for pair in left:
-        probe = first_joining(machine[pair[0]], machine[pair[1]], found)
-        if probe is not None:
-            newer[pair] = probe
-    return newer
-
-
-def first_joining(row, beside, found):
-    for ask, step in enumerate(row):
+def first_joining(machine, pair, found):
+    # The pair needs more asks than all that is found: so no ask that leads to a pair found is one too many, and the
+    # least of them begins the first probe.
+    beside = machine[pair[1]]
+    for ask, step in enumerate(machine[pair[0]]):
         after = pair_of(step[1], beside[ask][1])
         if after in found:
             return [ask] + found[after]

@@ -2,17 +2,10 @@ import copy
 import unittest
 
 from probewell.joining import joins, never
-from things import (chain, drawn_machine, even_machine, large_machines, probes_up_to, shares_lists, small_machines,
-                    walked)
+from things import (LONGEST, chain, drawn_machine, even_machine, joined_by_pairs, large_machines, late_joining,
+                    probes_up_to, rings_apart, shares_lists, small_machines, walked)
 
-LONGEST = int("9" * 60)
 SOME_JOINED = [[(0, 1), (0, 0)], [(0, 1), (0, 2)], [(0, 2), (0, 1)]]
-
-
-def late_joining(states):
-    """The ask 0 leads round; the ask 1 leads the last state to the first one, and leaves the others."""
-    last = states - 1
-    return [[(0, (state + 1) % states), (0, 0 if state == last else state)] for state in range(states)]
 
 
 def turned(machine):
@@ -32,21 +25,6 @@ def joins_by_all_probes(machine):
     return found
 
 
-def joined_by_pairs(machine, one, other):
-    """Forward from the two states, by pairs, in the order of the probes that lead to them."""
-    met = {(one, other): []}
-    waiting = [(one, other)]
-    for pair in waiting:
-        if pair[0] == pair[1]:
-            return met[pair]
-        for ask in range(len(machine[0])):
-            after = (machine[pair[0]][ask][1], machine[pair[1]][ask][1])
-            if after not in met:
-                met[after] = met[pair] + [ask]
-                waiting.append(after)
-    return None
-
-
 def first_of(probes):
     return min((probe for probe in probes if probe is not None), key=lambda probe: (len(probe), probe), default=None)
 
@@ -59,11 +37,6 @@ def never_by(table):
 def few_enough(machines):
     """Those small enough to be asked every probe that may join."""
     return [machine for machine in machines if len(machine[0]) ** (len(machine) * (len(machine) - 1) // 2) <= 1200]
-
-
-def rings_apart(states, asks):
-    """Each ask leads round, by another number of states each: no probe joins any two."""
-    return [[(LONGEST, (state + ask + 1) % states) for ask in range(asks)] for state in range(states)]
 
 
 class Joins(unittest.TestCase):

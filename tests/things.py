@@ -5,6 +5,8 @@ import random
 from decimal import Decimal
 from fractions import Fraction
 
+LONGEST = int("9" * 60)
+
 
 class Bare:
     pass
@@ -84,6 +86,18 @@ def no_probes(many):
     return found + [[0] * 13001, [many - 1] * 13001, [0] * 20000, [many] * 13001]
 
 
+def no_sets(states):
+    """Things of every kind that are no sets of a machine with so many states."""
+    every = list(range(states))
+    found = bare_things() + tuple_things() + number_things() + [tuple(every), set(every), "0", nested_in_itself()]
+    found += [[], [[]], [[0]], [()], [0, 0], every + every, every + [states], [-1] + every, [every], [0] * 20000]
+    for thing in no_numbers_below(states):
+        found += [[thing], [0, thing], [thing, states - 1], every[:-1] + [thing], [thing] + every[1:]]
+    if states > 1:
+        found += [[1, 0], every[::-1], every[:-2] + every[-1:] * 2, every[1:] + [0]]
+    return found
+
+
 def label(thing):
     # Python refuses to write the longest numbers, and the longest lists are of no use in a report.
     try:
@@ -105,6 +119,17 @@ def chain(states, asks=1):
     return found
 
 
+def late_joining(states):
+    """The ask 0 leads round; the ask 1 leads the last state to the first one, and leaves the others."""
+    last = states - 1
+    return [[(0, (state + 1) % states), (0, 0 if state == last else state)] for state in range(states)]
+
+
+def rings_apart(states, asks):
+    """Each ask leads round, by another number of states each: no probe joins any two."""
+    return [[(LONGEST, (state + ask + 1) % states) for ask in range(asks)] for state in range(states)]
+
+
 def drawn_machine(seed, states, asks, answers):
     draw = random.Random(seed)
     return [[(draw.choice(answers), draw.randrange(states)) for ask in range(asks)] for state in range(states)]
@@ -114,6 +139,12 @@ def all_machines(states, asks, answers):
     steps = list(itertools.product(answers, range(states)))
     for rows in itertools.product(itertools.product(steps, repeat=asks), repeat=states):
         yield [list(row) for row in rows]
+
+
+def all_sets(machine):
+    """All sets of states of the machine, the smaller ones first."""
+    states = range(len(machine))
+    return [list(held) for many in range(1, len(machine) + 1) for held in itertools.combinations(states, many)]
 
 
 def small_machines():
@@ -127,13 +158,12 @@ def small_machines():
 
 def large_machines():
     """Of 30 states, or of 5 asks, or both."""
-    longest = int("9" * 60)
     found = [even_machine(30, 5), even_machine(30, 1), even_machine(1, 5), chain(30), chain(30, 5)]
     found.append([[(7, (state * 7 + ask) % 30) for ask in range(5)] for state in range(30)])
     for seed in range(6):
         found.append(drawn_machine(seed, 30, 5, [0, 1]))
         found.append(drawn_machine(seed, 30, 2, [0] * 15 + [1]))
-        found.append(drawn_machine(seed, 30, 1, [longest, -longest]))
+        found.append(drawn_machine(seed, 30, 1, [LONGEST, -LONGEST]))
     return found
 
 
@@ -194,6 +224,21 @@ def pairs_met(one, other):
             if (step[1], beside[1]) not in met:
                 met.append((step[1], beside[1]))
     return met
+
+
+def joined_by_pairs(machine, one, other):
+    """Forward from the two states, by pairs, in the order of the probes that lead to them."""
+    met = {(one, other): []}
+    waiting = [(one, other)]
+    for pair in waiting:
+        if pair[0] == pair[1]:
+            return met[pair]
+        for ask in range(len(machine[0])):
+            after = (machine[pair[0]][ask][1], machine[pair[1]][ask][1])
+            if after not in met:
+                met[after] = met[pair] + [ask]
+                waiting.append(after)
+    return None
 
 
 def moved(machine, order):
